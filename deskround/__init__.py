@@ -1,0 +1,1 @@
+"""Deskround: files that go through many hands, and never get stuck."""
