@@ -54,7 +54,7 @@ def faults(code, methods):
         found.extend(name_faults(node))
         if isinstance(node, ast.Call) and isinstance(node.func, ast.Attribute) and node.func.attr not in methods:
             found.append(f"L25 {node.func.attr}")
-    return found + expression_faults(tree) + top_faults(tree)
+    return found + expression_faults(tree) + top_faults(tree) + local_faults(tree) + set_faults(tree)
 
 
 def sign_faults(code):
@@ -167,6 +167,65 @@ def top_faults(tree):
     return found
 
 
+def local_faults(tree):
+    taken = {alias.asname or alias.name for row in imports(tree) for alias in row.names}
+    taken |= {node.name for node in tree.body if isinstance(node, ast.ClassDef)}
+    parameters = [node.arg for node in ast.walk(tree) if isinstance(node, ast.arg)]
+    stored = [node.id for node in ast.walk(tree) if isinstance(node, ast.Name) and isinstance(node.ctx, ast.Store)]
+    return [f"L15 {name}" for name in parameters + stored if name in taken]
+
+
+def set_faults(tree):
+    parents = {child: node for node in ast.walk(tree) for child in ast.iter_child_nodes(node)}
+    found = []
+    for node in ast.walk(tree):
+        if isinstance(node, ast.Call) and isinstance(node.func, ast.Name) and node.func.id in ("set", "frozenset"):
+            around = parents[node]
+            while isinstance(around, ast.BinOp) and isinstance(around.op, (ast.Sub, ast.BitAnd, ast.BitOr, ast.BitXor)):
+                around = parents[around]
+            if not is_place_of_set(around):
+                found.append("L24 a set")
+    return found
+
+
+def is_place_of_set(around):
+    if isinstance(around, ast.Compare):
+        return all(isinstance(one, (ast.In, ast.NotIn, ast.Eq, ast.NotEq)) for one in around.ops)
+    if not isinstance(around, ast.Call) or not isinstance(around.func, ast.Name):
+        return False
+    return around.func.id in ("sorted", "len") and not around.keywords
+
+
+def imports(tree):
+    return [row for row in tree.body if isinstance(row, ast.ImportFrom)]
+
+
+def import_faults(codes):
+    """What is wrong between the files of a package, told as a dict from their names to their codes."""
+    trees = {name: ast.parse(code) for name, code in codes.items()}
+    tops = {name: top_names(tree) for name, tree in trees.items()}
+    drawn = {name: {row.module.rpartition(".")[2] for row in imports(tree)} for name, tree in trees.items()}
+    found = []
+    for name, tree in trees.items():
+        for row in imports(tree):
+            own = tops.get(row.module.rpartition(".")[2], set())
+            found.extend(f"L16 {name}: {alias.name}" for alias in row.names if alias.name not in own)
+        reached = set()
+        waiting = set(drawn[name])
+        while waiting:
+            one = waiting.pop()
+            reached.add(one)
+            waiting |= drawn.get(one, set()) - reached
+        if name in reached:
+            found.append(f"L16 a ring from {name}")
+    return found
+
+
+def top_names(tree):
+    names = {row.name for row in tree.body if isinstance(row, (ast.FunctionDef, ast.ClassDef))}
+    return names | {row.targets[0].id for row in tree.body if isinstance(row, ast.Assign)}
+
+
 class FormTest(unittest.TestCase):
     def test_the_files_keep_the_rules(self):
         paths = sorted(PACKAGE.glob("*.py"))
@@ -176,6 +235,21 @@ class FormTest(unittest.TestCase):
         for path, code in zip(paths, codes):
             with self.subTest(path=path.name):
                 self.assertEqual(faults(code, methods), [])
+
+    def test_the_files_draw_from_the_files_that_define(self):
+        codes = {path.stem: path.read_text("utf-8") for path in PACKAGE.glob("*.py")}
+        self.assertEqual(import_faults(codes), [])
+
+    def test_breaches_between_files_are_seen(self):
+        draws = "from deskround.{} import {}\n"
+        made = "def one(a):\n    return a\n"
+        self.assertEqual(import_faults({"a": made, "b": draws.format("a", "one")}), [])
+        self.assertNotEqual(import_faults({"a": made, "b": draws.format("a", "two")}), [])
+        self.assertNotEqual(import_faults({"a": made, "b": draws.format("c", "one")}), [])
+        through = {"a": made, "b": draws.format("a", "one"), "c": draws.format("b", "one")}
+        self.assertNotEqual(import_faults(through), [])
+        ring = {name: made.replace("one", name) + draws.format(other, other) for name, other in ("ab", "bc", "ca")}
+        self.assertNotEqual(import_faults(ring), [])
 
     def test_nothing_else_lies_in_the_package(self):
         for path in PACKAGE.iterdir():
@@ -192,6 +266,10 @@ class FormTest(unittest.TestCase):
             "# \u00e9\n", "def f(a):\n\treturn a\n", "def f(a):\n    a = b = 1\n", "class A:\n    x = 1\n",
             "def f(a):\n    global b\n", "def f(a):\n    return map(a)\n", "def hidden():\n    _a = 1\n",
             "print(1)\n", "def f(a):\n" + "    a = 1\n" * 40, "# " + "a" * 119 + "\n",
+            "from deskround.ties import keeps\n\n\ndef f(keeps):\n    return keeps\n",
+            "from deskround.ties import keeps\n\n\ndef f(a):\n    keeps = a\n    return keeps\n",
+            "def f(a):\n    return list(set(a))\n", "def f(a):\n    b = set(a)\n    return len(b)\n",
+            "def f(a):\n    return sorted(set(a), key=len)\n", "def f(a):\n    return [b for b in set(a)]\n",
         ):
             with self.subTest(code=code):
                 self.assertNotEqual(faults(code, OWN_METHODS), [])
