@@ -56,9 +56,10 @@ def is_list_of_blocks(pattern, blocks):
 
 
 def split_shows(pattern, may, ties, papers):
-    if len(pattern) >= len(may) or not isinstance(papers, list):
+    if not is_split(pattern, len(may), papers):
         return False
-    longer = grown(pattern)
-    if len(papers) != len(longer):
-        return False
-    return all([shows_for(one, may, ties, paper) for one, paper in zip(longer, papers)])
+    return all([shows_for(one, may, ties, paper) for one, paper in zip(grown(pattern), papers)])
+
+
+def is_split(pattern, count, papers):
+    return len(pattern) < count and isinstance(papers, list) and len(papers) == len(grown(pattern))

@@ -6,6 +6,7 @@ from itertools import combinations, product
 
 TOP = 10 ** 18
 SPOILT = "spoilt"
+MANY_FIGURES = 10 ** 3999 + 7
 
 
 def subsets(badges):
@@ -87,6 +88,68 @@ def shows_by_words(may, ties, paper, pattern=()):
     return False
 
 
+def minutes_by_words(bill, hands):
+    return sum(minutes for pairs, hand in zip(bill, hands) for badge, minutes in pairs if badge == hand)
+
+
+def may_by_words(bill):
+    return [sorted({badge for badge, minutes in pairs}) for pairs in bill]
+
+
+def sums_by_words(pattern, bill):
+    """Block by block the pairs (badge, sum), for a pattern that is a tuple."""
+    told = []
+    for block, pool in enumerate(pools_by_words(pattern, may_by_words(bill))):
+        steps = [bill[step] for step, number in enumerate(pattern) if number == block]
+        told.append([(badge, minutes_by_words(steps, [badge] * len(steps))) for badge in pool])
+    return told
+
+
+def keeps_below(prices, dues, pools):
+    """Whether for each pair (badge, cost) of each pool its price less the badge's due is at most the cost."""
+    return all(
+        price - sum(due for badge, due in dues if badge == one) <= cost
+        for price, pool in zip(prices, pools) for one, cost in pool
+    )
+
+
+def is_dues_by_words(dues):
+    if type(dues) is not list or any(type(pair) is not tuple or len(pair) != 2 for pair in dues):
+        return False
+    if any(type(number) is not int for pair in dues for number in pair):
+        return False
+    badges = [badge for badge, due in dues]
+    return badges == sorted(set(badges)) and all(1 <= badge <= TOP and due >= 0 for badge, due in dues)
+
+
+def bears_by_words(bill, ties, bound, paper, pattern=()):
+    """Whether the paper bears the bound for the pattern (a tuple), by the words of the four ways."""
+    if type(paper) is not tuple or not paper or type(paper[0]) is not str:
+        return False
+    if paper[0] in ("tie", "short"):
+        return shows_by_words(may_by_words(bill), ties, paper, pattern)
+    if paper[0] == "split" and len(paper) == 2:
+        longer = [row for row in patterns(len(pattern) + 1) if row[:-1] == pattern]
+        if len(pattern) >= len(bill) or type(paper[1]) is not list or len(paper[1]) != len(longer):
+            return False
+        return all(bears_by_words(bill, ties, bound, part, row) for part, row in zip(paper[1], longer))
+    if paper[0] == "dear" and len(paper) == 3:
+        prices, dues = paper[1:]
+        if type(prices) is not list or any(type(price) is not int for price in prices) or not is_dues_by_words(dues):
+            return False
+        if len(prices) != len(set(pattern)) or not keeps_below(prices, dues, sums_by_words(pattern, bill)):
+            return False
+        return sum(prices) >= bound + sum(due for badge, due in dues)
+    return False
+
+
+def fewest_minutes(bill, ties):
+    """The fewest minutes of all plans, with every choice of hands tried; None where there is no plan."""
+    may = may_by_words(bill)
+    plans = [hands for hands in product(*may) if is_plan_by_words(may, ties, hands)]
+    return min([minutes_by_words(bill, hands) for hands in plans], default=None)
+
+
 def lists_in(thing):
     """All lists that the thing has in it, itself too if it is one."""
     found = [thing] if isinstance(thing, list) else []
@@ -116,3 +179,98 @@ def check_own(test, deed, *handed):
     spoil(handed)
     test.assertEqual(repr(again), repr(as_told))
     test.assertNotIn(SPOILT, repr(deed(*as_handed)))
+
+
+def some_tie(chance, count):
+    steps = tuple(sorted(chance.sample(range(count), chance.randint(1, count))))
+    # Mostly a bound that the steps can keep, seldom any.
+    bound = chance.randint(1, len(steps)) if chance.random() < 0.95 else chance.randint(1, 6)
+    return (chance.choice(("most", "least")), bound, steps)
+
+
+def some_bill(chance, count, most):
+    """A bill of so many steps with at most so many badges a step, of up to twenty."""
+    badges = sorted(chance.sample(range(1, 100), chance.randint(1, 19)) + [TOP])
+    size = min(chance.choice((2, 3, most)), len(badges))
+    low, top = chance.choice(((0, 0), (1, 1), (0, 1), (0, 3), (1, 60), (0, TOP), (TOP - 2, TOP)))
+    least = 0 if chance.random() < 0.1 else 1
+    return [
+        [(badge, chance.randint(low, top)) for badge in sorted(chance.sample(badges, chance.randint(least, size)))]
+        for step in range(count)
+    ]
+
+
+def nested(depth):
+    """A paper in which so many split papers lie within one another."""
+    paper = ("tie", 0)
+    for number in range(depth):
+        paper = ("split", [paper])
+    return paper
+
+
+def deep(depth, make):
+    thing = make(0)
+    for number in range(depth):
+        thing = make(thing)
+    return thing
+
+
+# Things that are no papers of any may and ties.
+OTHER_THINGS = [
+    0, 1, -1, 2, TOP, MANY_FIGURES, -MANY_FIGURES, "", " ", "tie", "tie 0", "short", "split", "ti", "\t\n~",
+    "ab" * 2000, None, True, False, [], (), [[]], ((),), ([],), [()], [[], []], ((), ()), [None], (None,), (None, None),
+    (True, 0), (0, "tie"), (0, 0), (1, []), ("tie",), ("short",), ("split",), ["tie"], ["tie", 0], ["short", [0]],
+    ["split", [("tie", 0)]], ("tie", 0, 0), ("tie", 0, None), ("tie", 0, []), ("split", [("tie", 0)], []),
+    ("split", [("tie", 0)], 0), (("tie", 0),), [("tie", 0)], (("tie", 0), ("tie", 0)), ("tie", ("tie", 0)),
+    ("tie", [0]), ("tie", (0,)), ("tie", "0"), ("tie", ""), ("tie", None), ("tie", True), ("tie", -1), ("tie", TOP),
+    ("tie", MANY_FIGURES), ("tie", -MANY_FIGURES), ("tie", []), ("tie", ()), (["tie"], 0), (("tie",), 0), ("Tie", 0),
+    ("TIE", 0), ("tie ", 0), (" tie", 0), ("tie\n", 0), ("ties", 0), ("t", 0), ("", 0), ("dear", 0), ("dear", []),
+    ("dear", [], []), ("dear",), ("dear", [], [], []), ["dear", [], []], ("dear", (), []), ("dear", [], ()),
+    ("dear", None, None), ("dear", [], None), ("dear", [], 0), ("dear", [], ""), ("dear", "", []), ("Dear", [], []),
+    ("dear", ([], [])), ("dear", [[]], []), ("dear", [], [[]]), ("dear", [], [()]), ("dear", [None], []),
+    ("plan", [1]), ("none", ("tie", 0)), ("split", ("tie", 0)), ("split", (("tie", 0),)),
+    ("split", []), ("split", [[]]), ("split", [()]), ("split", [None]), ("split", [0]), ("split", [True]),
+    ("split", None), ("split", 1), ("split", "tie"), ("split", ["tie"]), ("split", [["tie", 0]]),
+    ("split", [("tie", 0), ("tie", 0)]), ("split", [("tie", True)]), ("Split", [("tie", 0)]),
+    ("short", []), ("short", ()), ("short", [0]), ("short", [MANY_FIGURES]), ("short", [-MANY_FIGURES]),
+    ("short", None), ("short", 0), ("short", "0"), ("short", ["0"]), ("short", [None]), ("short", [[]]),
+    nested(7), nested(50), deep(900, lambda inner: [inner]), deep(900, lambda inner: (inner,)),
+    deep(900, lambda inner: ("split", [inner])), deep(900, lambda inner: ("split", inner)),
+    deep(900, lambda inner: (inner, inner) if inner == 0 else (0, inner)), ("tie", deep(900, lambda inner: [inner])),
+    ("short", deep(900, lambda inner: [inner])), (deep(900, lambda inner: [inner]), 0),
+    ("dear", deep(900, lambda inner: [inner]), []), ("dear", [], deep(900, lambda inner: [inner])),
+    ("dear", [], [deep(900, lambda inner: (inner, 0))]), ("dear", [deep(900, lambda inner: (inner,))], []),
+]
+# What stands in the stead of a part of a paper.
+PARTS = [
+    0, 1, 2, 3, -1, -2, 12, True, False, None, "", "tie", "short", "split", [], (), [0], [1], [0, 1], [1, 0], [0, 0],
+    (0,), (0, 1), [True], [False, True], [0, True], [-1, 0], [0, 1, 2], [[0]], ("tie", 0), ("tie", 1), ("tie", True),
+    ("short", [0]), ("short", [0, 1]), ("short", [1]), ("short", []), ("split", []), [("tie", 0)],
+    ("split", [("tie", 0)]), ("split", [("tie", 0), ("tie", 0)]), ("split", [("tie", 0), ("tie", 0), ("tie", 0)]),
+    MANY_FIGURES, ("dear", [], []), ("dear", [0], []), ("dear", [0, 0], []), ("dear", [1], [(1, 1)]), ("dear", []),
+    (1, 0), (1, 1), [(1, 0)], [(1, 1), (2, 0)], [(2, 0), (1, 1)], [(1, 0), (1, 0)], [[1, 0]], [(1, 0, 0)], [(0, 1)],
+]
+
+
+def neighbours(thing):
+    """All things that stand one change away from the thing."""
+    for part in PARTS:
+        yield part
+    if isinstance(thing, (list, tuple)):
+        kind, other = (list, tuple) if isinstance(thing, list) else (tuple, list)
+        parts = list(thing)
+        yield other(parts)
+        yield kind(parts[::-1])
+        for extra in (0, None, ("tie", 0), parts[-1] if parts else True):
+            yield kind(parts + [extra])
+            yield kind([extra] + parts)
+        for place in range(len(parts)):
+            yield kind(parts[:place] + parts[place + 1:])
+            for changed in neighbours(parts[place]):
+                yield kind(parts[:place] + [changed] + parts[place + 1:])
+    if isinstance(thing, int):
+        for changed in (thing - 1, thing + 1, -thing, bool(thing), str(thing), [thing], (thing,)):
+            yield changed
+    if isinstance(thing, str):
+        for changed in (thing.upper(), thing + " ", thing[:-1], thing + "s", list(thing), (thing,)):
+            yield changed

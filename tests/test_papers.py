@@ -4,79 +4,10 @@ import unittest
 
 from deskround.papers import pools_of, shows
 from deskround.plans import plan
-from helper import TOP, check_own, has_plan_by_words, patterns, pools_by_words, shows_by_words, subsets
-
-MANY_FIGURES = 10 ** 3999 + 7
-
-
-def nested(depth):
-    """A paper in which so many split papers lie within one another."""
-    paper = ("tie", 0)
-    for number in range(depth):
-        paper = ("split", [paper])
-    return paper
-
-
-def deep(depth, make):
-    thing = make(0)
-    for number in range(depth):
-        thing = make(thing)
-    return thing
-
-
-# Things that are no papers of any may and ties.
-OTHER_THINGS = [
-    0, 1, -1, 2, TOP, MANY_FIGURES, -MANY_FIGURES, "", " ", "tie", "tie 0", "short", "split", "ti", "\t\n~",
-    "ab" * 2000, None, True, False, [], (), [[]], ((),), ([],), [()], [[], []], ((), ()), [None], (None,), (None, None),
-    (True, 0), (0, "tie"), (0, 0), (1, []), ("tie",), ("short",), ("split",), ["tie"], ["tie", 0], ["short", [0]],
-    ["split", [("tie", 0)]], ("tie", 0, 0), ("tie", 0, None), ("tie", 0, []), ("split", [("tie", 0)], []),
-    ("split", [("tie", 0)], 0), (("tie", 0),), [("tie", 0)], (("tie", 0), ("tie", 0)), ("tie", ("tie", 0)),
-    ("tie", [0]), ("tie", (0,)), ("tie", "0"), ("tie", ""), ("tie", None), ("tie", True), ("tie", -1), ("tie", TOP),
-    ("tie", MANY_FIGURES), ("tie", -MANY_FIGURES), ("tie", []), ("tie", ()), (["tie"], 0), (("tie",), 0), ("Tie", 0),
-    ("TIE", 0), ("tie ", 0), (" tie", 0), ("tie\n", 0), ("ties", 0), ("t", 0), ("", 0), ("dear", 0), ("dear", []),
-    ("dear", [], []), ("plan", [1]), ("none", ("tie", 0)), ("split", ("tie", 0)), ("split", (("tie", 0),)),
-    ("split", []), ("split", [[]]), ("split", [()]), ("split", [None]), ("split", [0]), ("split", [True]),
-    ("split", None), ("split", 1), ("split", "tie"), ("split", ["tie"]), ("split", [["tie", 0]]),
-    ("split", [("tie", 0), ("tie", 0)]), ("split", [("tie", True)]), ("Split", [("tie", 0)]),
-    ("short", []), ("short", ()), ("short", [0]), ("short", [MANY_FIGURES]), ("short", [-MANY_FIGURES]),
-    ("short", None), ("short", 0), ("short", "0"), ("short", ["0"]), ("short", [None]), ("short", [[]]),
-    nested(7), nested(50), deep(900, lambda inner: [inner]), deep(900, lambda inner: (inner,)),
-    deep(900, lambda inner: ("split", [inner])), deep(900, lambda inner: ("split", inner)),
-    deep(900, lambda inner: (inner, inner) if inner == 0 else (0, inner)), ("tie", deep(900, lambda inner: [inner])),
-    ("short", deep(900, lambda inner: [inner])), (deep(900, lambda inner: [inner]), 0),
-]
-# What stands in the stead of a part of a paper.
-PARTS = [
-    0, 1, 2, 3, -1, -2, 12, True, False, None, "", "tie", "short", "split", [], (), [0], [1], [0, 1], [1, 0], [0, 0],
-    (0,), (0, 1), [True], [False, True], [0, True], [-1, 0], [0, 1, 2], [[0]], ("tie", 0), ("tie", 1), ("tie", True),
-    ("short", [0]), ("short", [0, 1]), ("short", [1]), ("short", []), ("split", []), [("tie", 0)],
-    ("split", [("tie", 0)]), ("split", [("tie", 0), ("tie", 0)]), ("split", [("tie", 0), ("tie", 0), ("tie", 0)]),
-    MANY_FIGURES,
-]
-
-
-def neighbours(thing):
-    """All things that stand one change away from the thing."""
-    for part in PARTS:
-        yield part
-    if isinstance(thing, (list, tuple)):
-        kind, other = (list, tuple) if isinstance(thing, list) else (tuple, list)
-        parts = list(thing)
-        yield other(parts)
-        yield kind(parts[::-1])
-        for extra in (0, None, ("tie", 0), parts[-1] if parts else True):
-            yield kind(parts + [extra])
-            yield kind([extra] + parts)
-        for place in range(len(parts)):
-            yield kind(parts[:place] + parts[place + 1:])
-            for changed in neighbours(parts[place]):
-                yield kind(parts[:place] + [changed] + parts[place + 1:])
-    if isinstance(thing, int):
-        for changed in (thing - 1, thing + 1, -thing, bool(thing), str(thing), [thing], (thing,)):
-            yield changed
-    if isinstance(thing, str):
-        for changed in (thing.upper(), thing + " ", thing[:-1], thing + "s", list(thing), (thing,)):
-            yield changed
+from helper import (
+    MANY_FIGURES, OTHER_THINGS, TOP, check_own, has_plan_by_words, neighbours, patterns, pools_by_words, shows_by_words,
+    subsets,
+)
 
 
 class PoolsTest(unittest.TestCase):

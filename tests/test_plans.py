@@ -5,7 +5,8 @@ import unittest
 from deskround.papers import shows
 from deskround.plans import fits, held, plan
 from helper import (
-    SPOILT, TOP, check_own, has_plan_by_words, is_plan_by_words, lists_in, shows_by_words, subsets, ties_of,
+    SPOILT, TOP, check_own, has_plan_by_words, is_plan_by_words, lists_in, shows_by_words, some_tie, subsets,
+    ties_of,
 )
 
 ALL = (0, 1, 2, 3, 4, 5)
@@ -213,13 +214,6 @@ class PlanTest(unittest.TestCase):
                     self.assertIs(shows(may, ties, thing), False)
                 if other == "plan" and word == "none":
                     self.assertIs(fits(may, ties, thing), False)
-
-
-def some_tie(chance, count):
-    steps = tuple(sorted(chance.sample(range(count), chance.randint(1, count))))
-    # Mostly a bound that the steps can keep, seldom any.
-    bound = chance.randint(1, len(steps)) if chance.random() < 0.95 else chance.randint(1, 6)
-    return (chance.choice(("most", "least")), bound, steps)
 
 
 class HeldTest(unittest.TestCase):
