@@ -32,3 +32,12 @@ def joined(one, other):
 
 def without(one, other):
     return sorted(set(one) - set(other))
+
+
+# Those with fewer members first, as many in the order in which Python sorts
+# lists: whoever seeks the fewest can stop at the first that serves.
+def choices(numbers):
+    found = [[]]
+    for number in numbers:
+        found = found + [some + [number] for some in found]
+    return sorted(sorted(found), key=len)

@@ -2,7 +2,9 @@
 
 from copy import deepcopy
 from functools import lru_cache
-from itertools import combinations, product
+from itertools import combinations, permutations, product
+
+from deskround import errors
 
 TOP = 10 ** 18
 SPOILT = "spoilt"
@@ -150,6 +152,41 @@ def fewest_minutes(bill, ties):
     return min([minutes_by_words(bill, hands) for hands in plans], default=None)
 
 
+def held_by_words(may, done):
+    return [badges if hand is None else [hand] for badges, hand in zip(may, done)]
+
+
+def is_ring_by_words(order, steps):
+    """Whether these are unlike steps, each ahead of the next one, the last one ahead of the first one."""
+    steps = list(steps)
+    return len(set(steps)) == len(steps) > 0 and set(zip(steps, steps[1:] + steps[:1])) <= set(order)
+
+
+def has_ring_by_words(count, order):
+    """Whether one of all rows of unlike steps is a ring."""
+    rows = [row for size in range(1, count + 1) for row in permutations(range(count), size)]
+    return any(is_ring_by_words(order, row) for row in rows)
+
+
+def done_steps(done):
+    return [step for step, hand in enumerate(done) if hand is not None]
+
+
+def is_done_of_order(order, done):
+    """Whether each done step has all steps ahead of it done, too."""
+    return all(done[ahead] is not None for ahead, behind in order if done[behind] is not None)
+
+
+def strikes_by_words(order, done):
+    """All sets of strikes, those with fewer members first, as many in the order of lists."""
+    sets = [some for some in subsets(done_steps(done)) if is_strikes_by_words(order, done, some)]
+    return sorted(sets, key=lambda some: (len(some), some))
+
+
+def is_strikes_by_words(order, done, some):
+    return all(step in some for step in done_steps(done) for member in some if (member, step) in order)
+
+
 def lists_in(thing):
     """All lists that the thing has in it, itself too if it is one."""
     found = [thing] if isinstance(thing, list) else []
@@ -181,6 +218,22 @@ def check_own(test, deed, *handed):
     test.assertNotIn(SPOILT, repr(deed(*as_handed)))
 
 
+REFUSALS = [
+    one for one in vars(errors).values()
+    if isinstance(one, type) and issubclass(one, errors.DeskError) and one is not errors.DeskError
+]
+
+
+def check_refused(test, refusal, deed, *handed):
+    """The deed is refused with this class, which is taken as DeskError and ValueError and as no other refusal."""
+    as_handed = repr(handed)
+    for taken_as in (refusal, errors.DeskError, ValueError):
+        with test.assertRaises(taken_as) as caught:
+            deed(*handed)
+        test.assertEqual([one for one in REFUSALS if isinstance(caught.exception, one)], [refusal])
+        test.assertEqual(repr(handed), as_handed)
+
+
 def some_tie(chance, count):
     steps = tuple(sorted(chance.sample(range(count), chance.randint(1, count))))
     # Mostly a bound that the steps can keep, seldom any.
@@ -198,6 +251,25 @@ def some_bill(chance, count, most):
         [(badge, chance.randint(low, top)) for badge in sorted(chance.sample(badges, chance.randint(least, size)))]
         for step in range(count)
     ]
+
+
+def some_order(chance, count, most):
+    """An order of so many steps without a ring, of at most so many pairs, some perhaps twice."""
+    row = chance.sample(range(count), count)
+    pairs = list(combinations(row, 2))
+    return [chance.choice(pairs) for number in range(chance.randint(0, most))] if pairs else []
+
+
+def some_done(chance, order, lists, share):
+    """A done in which each done step has all steps ahead of it done, with hands from the lists, one for each step."""
+    done = [None] * len(lists)
+    # Steps that are not done ahead of all others hold back what is behind them.
+    never = [step for step in range(len(lists)) if chance.random() >= share]
+    for turn in lists:
+        for step, badges in enumerate(lists):
+            if step not in never and all(done[ahead] is not None for ahead, behind in order if behind == step):
+                done[step] = chance.choice(badges)
+    return done
 
 
 def nested(depth):

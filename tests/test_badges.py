@@ -1,8 +1,8 @@
 import itertools
 import unittest
 
-from deskround.badges import common, is_badge, is_name, is_rising, is_whole, joined, without
-from helper import subsets
+from deskround.badges import choices, common, is_badge, is_name, is_rising, is_whole, joined, without
+from helper import check_own, subsets
 
 TOP = 10 ** 18
 MANY_FIGURES = 10 ** 3999 + 7
@@ -168,6 +168,25 @@ class ListsTest(unittest.TestCase):
             first.append(99)
             self.assertNotIn(99, again)
             self.assertNotIn(99, deed([1, 2], [2, 3]))
+
+
+class ChoicesTest(unittest.TestCase):
+    def test_few(self):
+        self.assertEqual(choices([]), [[]])
+        self.assertEqual(choices([4]), [[], [4]])
+        self.assertEqual(choices([4, TOP]), [[], [4], [TOP], [4, TOP]])
+        self.assertEqual(choices([1, 2, 3]), [[], [1], [2], [3], [1, 2], [1, 3], [2, 3], [1, 2, 3]])
+
+    def test_fewer_members_first_and_as_many_sorted(self):
+        for size in range(8):
+            numbers = list(range(3, 3 + 2 * size, 2))
+            told = choices(numbers)
+            self.assertEqual(told, subsets(numbers))
+            self.assertEqual(told, sorted(told, key=lambda some: (len(some), some)))
+
+    def test_own(self):
+        for numbers in ([], [4], [1, 2, 3]):
+            check_own(self, choices, numbers)
 
 
 if __name__ == "__main__":
